@@ -1,0 +1,17 @@
+"""Budgets: how much a search may look at."""
+
+from moonfall.moreerrors import TooMany
+
+
+class Budget:
+    """Lets so many things be looked at."""
+
+    def __init__(self, most):
+        self.most = most
+        self.spent = 0
+
+    def spend(self):
+        """One thing more is looked at; TooMany if that is not let."""
+        if self.spent >= self.most:
+            raise TooMany(self.most)
+        self.spent += 1

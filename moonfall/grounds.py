@@ -45,10 +45,8 @@ class Camera:
         self.lost = lost
 
     def __eq__(self, other):
-        return isinstance(other, Camera) and self._numbers() == other._numbers()
-
-    def _numbers(self):
-        return self.width, self.height, self.error, self.false, self.lost
+        return (isinstance(other, Camera) and self.width == other.width and self.height == other.height
+                and self.error == other.error and self.false == other.false and self.lost == other.lost)
 
     def is_sure(self, x, y):
         """Whether a place is so well within the frame that a crater there is seen in it."""
@@ -102,10 +100,8 @@ class Sky:
         self.area = area
 
     def __eq__(self, other):
-        return isinstance(other, Sky) and self._parts() == other._parts()
-
-    def _parts(self):
-        return self.ground, self.camera, self.turns, self.area
+        return (isinstance(other, Sky) and self.ground == other.ground and self.camera == other.camera
+                and self.turns == other.turns and self.area == other.area)
 
     def standings(self):
         """The ascending tuple of all standings of the sky."""

@@ -232,6 +232,23 @@ class Skies(unittest.TestCase):
         self.assertFalse(sky == Sky(self.ground, self.camera, (0, 2), (0, 1, 2, 4)))
         for thing in (None, (self.ground, self.camera, (0, 2), (0, 1, 2, 3)), self.ground):
             self.assertIs(sky == thing, False)
+            self.assertIs(sky != thing, True)
+
+    def test_each_part_of_a_sky_counts(self):
+        parts = (self.ground, self.camera, (0, 2), (0, 1, 2, 3))
+        sky = Sky(*parts)
+        self.assertIs(sky == Sky(*parts), True)
+        others = [[Ground(self.ground.craters[1:]), Ground([*self.ground.craters, (5, 0, 1)])],
+                  [Camera(*numbers) for numbers in ((5, 1, 0, 0, 0), (4, 2, 0, 0, 0), (4, 1, 1, 0, 0),
+                                                    (4, 1, 0, 1, 0), (4, 1, 0, 0, 1))],
+                  [(0,), (2,), (0, 1, 2), (0, 3)],
+                  [(-1, 1, 2, 3), (0, 2, 2, 3), (0, 1, 1, 3), (0, 1, 2, 4)]]
+        for at, unlike in enumerate(others):
+            for part in unlike:
+                other = Sky(*parts[:at], part, *parts[at + 1:])
+                self.assertIs(sky == other, False)
+                self.assertIs(other == sky, False)
+                self.assertIs(sky != other, True)
 
     def test_places_and_sure_craters(self):
         for seed in range(80):

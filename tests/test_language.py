@@ -170,6 +170,19 @@ class Language(unittest.TestCase):
                     let = methods | METHODS if id(node) in called else attributes
                     self.assertIn(node.attr, let, f"{name} {node.lineno}")
 
+    def test_equality(self):
+        """L28 with L5: `__eq__` compares attribute by attribute, and calls no method, not even one of its own."""
+        for name, tree in trees().items():
+            for owner in ast.walk(tree):
+                for node in owner.body if isinstance(owner, ast.ClassDef) else []:
+                    if isinstance(node, ast.FunctionDef) and node.name == "__eq__":
+                        stored = [each.attr for each in ast.walk(owner) if isinstance(each, ast.Attribute)
+                                  and isinstance(each.ctx, ast.Store) and not each.attr.startswith("_")]
+                        parts = [f"isinstance(other, {owner.name})"]
+                        parts += [f"self.{word} == other.{word}" for word in stored]
+                        right = ast.parse("return " + " and ".join(parts)).body
+                        self.assertEqual([ast.dump(row) for row in node.body], [ast.dump(row) for row in right], name)
+
     def test_sets_are_not_iterated(self):
         for name, tree in trees().items():
             for node in ast.walk(tree):

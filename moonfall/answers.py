@@ -2,7 +2,7 @@
 
 from moonfall.budgets import Budget
 from moonfall.charts import Chart
-from moonfall.commons import common_points
+from moonfall.commons import common_points, owed_by
 from moonfall.fitting import fits_by
 from moonfall.likeness import Likeness
 from moonfall.masks import bits, greatest_of, is_within, is_within_any, mask_of
@@ -53,7 +53,7 @@ class Album:
                 return picture
         if self._is_barred(lot):
             return None
-        picture = common_points(self.spots, bits(lot), self.budget)
+        picture = common_points(self.spots, owed_by(self.spots, bits(lot)), self.budget)
         if picture is None:
             self._bar(lot)
         else:

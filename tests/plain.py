@@ -5,6 +5,9 @@ from random import Random
 
 from moonfall.grounds import Camera, Ground, Sky
 
+# So great a `most` that nothing is let go.
+NEVER = 10 ** 9
+
 
 def turned_plain(x, y, turn):
     for _ in range(turn):
@@ -152,3 +155,37 @@ def count(told, row):
     """How often rows of each length, or None, were told."""
     key = None if row is None else len(row)
     told[key] = told.get(key, 0) + 1
+
+
+def points_enough(sky, lot):
+    """Points that no crater surely in needs, at some standing, can be left out: so that many are enough."""
+    return sum(max(0, len(sure_of(sky, standing)) - sky.camera.lost) for standing in set(lot))
+
+
+def lots_plain(sky, belief, most):
+    """The greatest lots that pictures of few points fit, by trying all."""
+    lots = set()
+    for picture in all_pictures(sky, most):
+        lots.add(frozenset(standing for standing in belief if fits_plain(sky, picture, standing)))
+    return sorted(tuple(sorted(lot)) for lot in lots if lot and not any(lot < other for other in lots))
+
+
+def skies(many, start=0, frame=(2, 2), sizes=1, slacks=(0, 0, 1), errors=(0, 0, 1), most=6):
+    for seed in range(start, start + many):
+        yield Random(seed), random_sky(seed, spans=(3, 3), most=most, sizes=sizes, frame=frame, slacks=slacks,
+                                       errors=errors, turns=2, least=2)
+
+
+def changed_parts(thing):
+    """A nest of tuples with just one part changed, in many ways; behind each one what may be mistaken for it."""
+    if isinstance(thing, tuple):
+        yield list(thing)
+        yield thing + thing[-1:]
+        for at, part in enumerate(thing):
+            yield thing[:at] + thing[at + 1:]
+            for changed in changed_parts(part):
+                yield thing[:at] + (changed,) + thing[at + 1:]
+    elif isinstance(thing, int):
+        yield from (thing + 1, thing - 1, bool(thing), None)
+    else:
+        yield from ("false" if thing == "lost" else "lost", None)

@@ -2,35 +2,13 @@
 
 import unittest
 from itertools import combinations, product
-from random import Random
 
 from moonfall.alike import are_alike
 from moonfall.answers import answers, common_picture
 from moonfall.errors import BadStanding
 from moonfall.grounds import Camera, Ground, Sky
 from moonfall.moreerrors import TooMany
-from plain import all_pictures, fits_plain, random_sky, sure_of
-
-NEVER = 10 ** 9
-
-
-def points_enough(sky, lot):
-    """Points that no crater surely in needs, at some standing, can be left out: so that many are enough."""
-    return sum(max(0, len(sure_of(sky, standing)) - sky.camera.lost) for standing in set(lot))
-
-
-def lots_plain(sky, belief, most):
-    """The greatest lots that pictures of few points fit, by trying all."""
-    lots = set()
-    for picture in all_pictures(sky, most):
-        lots.add(frozenset(standing for standing in belief if fits_plain(sky, picture, standing)))
-    return sorted(tuple(sorted(lot)) for lot in lots if lot and not any(lot < other for other in lots))
-
-
-def skies(many, start=0, frame=(2, 2), sizes=1, slacks=(0, 0, 1), errors=(0, 0, 1), most=6):
-    for seed in range(start, start + many):
-        yield Random(seed), random_sky(seed, spans=(3, 3), most=most, sizes=sizes, frame=frame, slacks=slacks,
-                                       errors=errors, turns=2, least=2)
+from plain import NEVER, all_pictures, fits_plain, lots_plain, points_enough, skies
 
 
 class Commons(unittest.TestCase):

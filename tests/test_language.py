@@ -13,6 +13,7 @@ ZeroDivisionError ArithmeticError OverflowError RuntimeError NotImplementedError
 METHODS = set("""append clear copy count endswith extend find get index insert isalnum isalpha isdigit islower isspace
 isupper items join keys ljust lower lstrip partition pop remove replace reverse rfind rjust rpartition rsplit rstrip
 setdefault split splitlines startswith strip update upper values zfill bit_length add discard""".split())
+MODIFIERS = set("append clear extend insert pop remove reverse setdefault update add discard".split())
 LIBRARY = {
     "heapq": {"heappush", "heappop", "heapify", "heapreplace", "heappushpop"},
     "math": {"gcd", "lcm", "isqrt", "comb", "perm", "factorial"},
@@ -194,6 +195,57 @@ class Language(unittest.TestCase):
                     self.assertNotIsInstance(row, (ast.Set, ast.SetComp), name)
                     if isinstance(row, ast.Call) and isinstance(row.func, ast.Name):
                         self.assertNotEqual(row.func.id, "set", name)
+
+    def test_what_a_loop_goes_over_stays(self):
+        """L23: no append, pop, item or `del` in a loop at what it goes over."""
+        for name, tree in trees().items():
+            for loop in ast.walk(tree):
+                if not isinstance(loop, ast.For):
+                    continue
+                over = loop.iter
+                while isinstance(over, ast.Call):
+                    over = over.args[0] if over.args else getattr(over.func, "value", None)
+                text = ast.unparse(over) if over is not None else ""
+                for node in (each for row in loop.body for each in ast.walk(row)):
+                    touched = None
+                    if isinstance(node, ast.Call) and getattr(node.func, "attr", "") in MODIFIERS:
+                        touched = node.func.value
+                    elif isinstance(node, ast.Subscript) and not isinstance(node.ctx, ast.Load):
+                        touched = node.value
+                    elif isinstance(node, ast.AugAssign):
+                        touched = node.target
+                    self.assertFalse(touched is not None and ast.unparse(touched) == text, f"{name} {loop.lineno}")
+
+    def test_kept_sets(self):
+        """L24: a variable that holds a set is assigned once, and is only asked, added to, counted, sorted."""
+        for name, tree in trees().items():
+            for node in functions_of(tree):
+                stores = [each for each in ast.walk(node) if isinstance(each, ast.Assign)]
+                for each in stores:
+                    if not (isinstance(each.value, (ast.Set, ast.SetComp)) or isinstance(each.value, ast.Call)
+                            and getattr(each.value.func, "id", "") == "set"):
+                        continue
+                    word = each.targets[0].id
+                    self.assertEqual(sum(ast.unparse(other.targets[0]) == word for other in stores), 1, name)
+                    let = {id(each.targets[0])}
+                    for user in ast.walk(node):
+                        if isinstance(user, ast.Compare):
+                            let.update(map(id, user.comparators))
+                        elif isinstance(user, ast.Call) and getattr(user.func, "attr", "") in ("add", "discard"):
+                            let.add(id(user.func.value))
+                        elif isinstance(user, ast.Call) and getattr(user.func, "id", "") in ("len", "sorted"):
+                            let.update(map(id, user.args))
+                    used = {id(user) for user in ast.walk(node) if isinstance(user, ast.Name) and user.id == word}
+                    self.assertLessEqual(used, let, f"{name}.{node.name}")
+
+    def test_keywords(self):
+        """L22, L25: keywords go to own functions, and `key=` to sorted, min and max."""
+        for name, tree in trees().items():
+            for node in ast.walk(tree):
+                if isinstance(node, ast.Call):
+                    words = {keyword.arg for keyword in node.keywords}
+                    let = {"sorted": {"key", "reverse"}, "min": {"key", "default"}, "max": {"key", "default"}}
+                    self.assertLessEqual(words, let.get(getattr(node.func, "id", ""), set()), f"{name} {node.lineno}")
 
     def test_iterated_at_once(self):
         lazy = {"zip", "enumerate", "reversed", "range", "combinations", "product", "permutations"}

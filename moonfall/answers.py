@@ -1,12 +1,13 @@
 """One picture for many standings: the greatest lots of a belief that some picture fits."""
 
 from moonfall.budgets import Budget
-from moonfall.charts import Chart
 from moonfall.commons import common_points, owed_by
 from moonfall.fitting import fits_by
 from moonfall.likeness import Likeness
-from moonfall.masks import bits, greatest_of, is_within, is_within_any, mask_of
+from moonfall.masks import bits, greatest_of, is_within, mask_of
+from moonfall.shelves import Shelf
 from moonfall.spots import Spots
+from moonfall.transversals import meeting_too
 
 
 def common_picture(sky, lot, most):
@@ -21,8 +22,22 @@ def common_picture(sky, lot, most):
 def answers(sky, belief, most):
     """The list of the pairs (lot, picture) of the greatest lots out of a belief that some picture fits."""
     album = _album_of(sky, belief, most)
-    lots = album.greatest_lots()
-    return sorted([(tuple([album.belief[number] for number in bits(lot)]), album.picture(lot)) for lot in lots])
+    lots, _ = album.parted()
+    return sorted([(album.standings_of(lot), album.picture(lot)) for lot in lots])
+
+
+def greatest_lots(likeness, standings, budget):
+    """The lots of these alone, of unlike standings of a sky, by the rule of that sky."""
+    album = Album(likeness, standings, budget)
+    lots, _ = album.parted()
+    return [album.standings_of(lot) for lot in lots]
+
+
+def least_barred_lots(likeness, standings, budget):
+    """The least lots of unlike standings of a sky that no picture fits."""
+    album = Album(likeness, standings, budget)
+    _, barred = album.parted()
+    return [album.standings_of(lot) for lot in barred]
 
 
 def _album_of(sky, standings, most):
@@ -30,97 +45,98 @@ def _album_of(sky, standings, most):
         sky.check_standing(standing)
     budget = Budget(most)
     budget.spend()
-    return Album(sky, sorted(set(standings)), budget)
+    return Album(Likeness(sky), sorted(set(standings)), budget)
 
 
 class Album:
     """Pictures for the lots of a belief, which are masks of the places in it; what was found is kept."""
 
-    def __init__(self, sky, belief, budget):
-        self.chart = Chart(sky)
-        self.spots = Spots(sky, belief)
+    def __init__(self, likeness, belief, budget):
+        self.chart = likeness.chart
+        self.spots = Spots(likeness.sky, belief)
         self.belief = belief
         self.budget = budget
-        self.likes = _likes_among(sky, belief)
-        self._found = []
-        # By the greatest number in them: what is asked grows standing by standing, so others can't be in it.
-        self._barred = [[] for _ in belief]
+        self.likes = _likes_among(likeness, belief)
+        self._pictures = []
+        self._fitted = Shelf(len(belief))
+        self._barred = Shelf(len(belief))
+
+    def standings_of(self, lot):
+        """The standings of a lot, in the order of the belief."""
+        return tuple([self.belief[number] for number in bits(lot)])
 
     def picture(self, lot):
         """A picture that fits a lot whose standings are alike two by two; None without any."""
-        for wider, picture in self._found:
-            if not lot & ~wider:
-                return picture
-        if self._is_barred(lot):
+        at = self._fitted.first_around(lot)
+        if at is not None:
+            return self._pictures[at]
+        if self._barred.has_within(lot):
             return None
         picture = common_points(self.spots, owed_by(self.spots, bits(lot)), self.budget)
         if picture is None:
-            self._bar(lot)
+            self._barred.put(lot)
         else:
-            fitted = self._fitted_by(picture)
-            self._found = [row for row in self._found if not is_within(row[0], fitted)] + [(fitted, picture)]
+            self._pictures.append(picture)
+            self._fitted.put(self._fitted_by(picture))
         return picture
-
-    def _is_barred(self, lot):
-        """Whether a lot is known to have no picture."""
-        for barred in self._barred[lot.bit_length() - 1] if lot else []:
-            if not barred & ~lot:
-                return True
-        return False
-
-    def _bar(self, lot):
-        """A lot is known to have no picture from now on."""
-        last = lot.bit_length() - 1
-        self._barred[last] = [barred for barred in self._barred[last] if not is_within(lot, barred)] + [lot]
 
     def _fitted_by(self, picture):
         """The lot of all of the belief that a picture fits."""
         fitted = [fits_by(self.chart, picture, standing) for standing in self.belief]
         return mask_of([number for number, is_fitted in enumerate(fitted) if is_fitted])
 
-    def greatest_lots(self):
-        """The greatest lots of the belief that have a picture: standing by standing, those of the ones so far."""
+    def parted(self):
+        """The greatest lots of the belief that have a picture, and the least ones that have none: two lists."""
         lots = []
+        barred = []
         for number, likes in enumerate(self.likes):
-            grown = [1 << number]
-            for base in greatest_of([lot & likes for lot in lots]):
-                grown.extend(self._greatest_with(number, base))
-            lots = greatest_of(lots + grown)
-        return lots
+            bit = 1 << number
+            barred.extend([bit | 1 << other for other in bits((bit - 1) & ~likes)])
+            bases = greatest_of([lot & likes for lot in lots] + [0])
+            grown = self._grown_by(bit, bases, barred)
+            known = {lot: True for lot in grown}
+            lots = [lot for lot in lots if lot | bit not in known] + grown
+        return lots, barred
 
-    def _greatest_with(self, number, base):
-        """The greatest lots, and perhaps others, that have a picture, out of one that has, with one more standing."""
-        bit = 1 << number
-        found = []
-        stack = [base]
-        seen = set()
-        while stack:
-            lot = stack.pop()
-            if is_within_any(lot | bit, found):
-                continue
-            if self.picture(lot | bit) is not None:
-                found.append(lot | bit)
-                continue
-            for other in bits(self._least_barred(lot, bit)):
-                less = lot & ~(1 << other)
-                if less not in seen:
-                    seen.add(less)
-                    stack.append(less)
-        return found
+    def _grown_by(self, bit, bases, barred):
+        """The greatest lots with a picture that have one standing more than what lies within some bases.
+
+        What is beyond such a lot has a standing of each lot without a picture. So what is tried is what is beyond
+        none but these; if it has no picture, one lot more without one is known.
+        """
+        beyond = [(bit - 1) & ~base for base in bases]
+        at = 0
+        while at < len(beyond):
+            lot = (2 * bit - 1) & ~beyond[at]
+            if self.picture(lot) is None:
+                barred.append(self._least_barred(lot, bit))
+                # What was tried and has a picture stays ahead.
+                beyond = meeting_too(beyond, barred[-1] & ~bit, self.budget)
+            else:
+                at += 1
+        return [(2 * bit - 1) & ~mask for mask in beyond]
 
     def _least_barred(self, lot, bit):
-        """A least part of a lot, which has a picture, that with one more standing has none."""
-        for other in bits(lot):
-            less = lot & ~(1 << other)
-            if self.picture(less | bit) is None:
-                lot = less
-        self._bar(lot | bit)
-        return lot
+        """A least part of a lot that has no picture, while it has one without a standing's bit."""
+        least = bit
+        others = bits(lot & ~bit)
+        while self.picture(least) is not None:
+            # Of the first others as few as can be, with which there is none: the last of them is needed.
+            low = 1
+            high = len(others)
+            while low < high:
+                many = (low + high) // 2
+                if self.picture(least | mask_of(others[:many])) is None:
+                    high = many
+                else:
+                    low = many + 1
+            least |= 1 << others[low - 1]
+            others = others[:low - 1]
+        return least
 
 
-def _likes_among(sky, belief):
+def _likes_among(likeness, belief):
     """For each standing of a belief the mask of those that are alike to it, itself too."""
-    likeness = Likeness(sky)
     likes = [1 << number for number in range(len(belief))]
     for number, one in enumerate(belief):
         for other in range(number):

@@ -1,7 +1,8 @@
 """Covers: all least lots of a belief that no picture fits, each with its refusal; and what they leave free."""
 
-from moonfall.answers import Album
+from moonfall.answers import least_barred_lots
 from moonfall.budgets import Budget
+from moonfall.likeness import Likeness
 from moonfall.masks import bits, mask_of
 from moonfall.refusals import refusal_by, shows_by
 from moonfall.transversals import least_transversals
@@ -15,13 +16,7 @@ def cover(sky, belief, most):
     budget = Budget(most)
     budget.spend()
     standings = sorted(set(belief))
-    everyone = (1 << len(standings)) - 1
-    # Every picture fits the empty lot.
-    fitted = [0, *Album(sky, standings, budget).greatest_lots()]
-    # No picture fits a lot just if it has a standing beyond each of the greatest lots that some picture fits.
-    least = least_transversals([everyone & ~lot for lot in fitted], budget)
-    lots = [tuple([standings[number] for number in bits(lot)]) for lot in least]
-    ranked = sorted([(len(lot), lot) for lot in lots])
+    ranked = sorted([(len(lot), lot) for lot in least_barred_lots(Likeness(sky), standings, budget)])
     return tuple([(lot, refusal_by(sky, lot, budget)) for _, lot in ranked])
 
 

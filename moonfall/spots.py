@@ -5,7 +5,6 @@ crater that it can be of at that standing. Where not all are asked for, only spo
 less than any other one: in every picture such a spot can take the place of a lesser one.
 """
 
-from moonfall.charts import Chart
 from moonfall.masks import bits, greatest_of, mask_of
 
 
@@ -20,12 +19,13 @@ class Spots:
         self._found = {}
         self._each = {}
         self._boxes = {}
+        self._sure = []
         for at, standing in enumerate(standings):
-            for number, (x, y, size) in enumerate(sky.places(standing)):
+            places = sky.places(standing)
+            for number, (x, y, size) in enumerate(places):
                 if self.camera.is_maybe(x, y):
                     self._boxes[at * self.many + number] = (size, self._span(x), self._span(y))
-        chart = Chart(sky)
-        self._sure = [bits(chart.sure(standing)) for standing in standings]
+            self._sure.append([number for number, (x, y, _) in enumerate(places) if self.camera.is_sure(x, y)])
 
     def _span(self, where):
         """How far the points that can be of a crater go along an axis.

@@ -4,6 +4,7 @@ MOST_CRATERS = 100
 MOST_SIZE = 99
 FARTHEST = 1000000
 FARTHEST_MOVE = 10000
+FARTHEST_STEP = 1000
 
 
 def is_whole(thing):
@@ -29,6 +30,13 @@ def is_point(thing):
 def is_crater(thing):
     """Whether a thing is a point that may be a crater of a ground."""
     return is_point(thing) and all([-FARTHEST <= part <= FARTHEST for part in thing[:2]])
+
+
+def is_pair(thing):
+    """Whether a thing is a pair (right, down) of a step, of a slip, of a place in the camera."""
+    if not isinstance(thing, tuple) or len(thing) != 2:
+        return False
+    return all([is_between(part, -FARTHEST_STEP, FARTHEST_STEP) for part in thing])
 
 
 def is_turn(thing):

@@ -2,6 +2,7 @@
 
 import ast
 import builtins
+import sys
 import unittest
 from pathlib import Path
 
@@ -68,6 +69,7 @@ class Language(unittest.TestCase):
         for path in PACKAGE.iterdir():
             if path.name != "__pycache__":
                 self.assertRegex(path.name, r"^[a-z0-9_]+\.py$")
+                self.assertNotIn(path.stem, set(sys.stdlib_module_names) | set(dir(builtins)))
         for name, text in sources().items():
             lines = text.split("\n")
             self.assertLessEqual(len(lines) - 1, 399, name)
@@ -162,7 +164,8 @@ class Language(unittest.TestCase):
                     methods |= {node.name for node in each.body if isinstance(node, ast.FunctionDef)}
                 if isinstance(each, ast.Attribute) and isinstance(each.ctx, ast.Store):
                     attributes.add(each.attr)
-        self.assertFalse(methods & attributes)
+        # L18 lets a name be both in classes that have nothing to do with one another: a sky's method, BadCut's place.
+        self.assertLessEqual(methods & attributes, {"place"})
         self.assertFalse((methods | attributes) & (METHODS | {"sort", "args", "format"}))
         for name, tree in known.items():
             called = {id(node.func) for node in ast.walk(tree) if isinstance(node, ast.Call)}

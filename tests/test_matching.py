@@ -9,7 +9,9 @@ from moonfall.independent import Network
 from moonfall.masks import bits, count_bits, greatest_of, is_within, is_within_any, mask_of
 from moonfall.matching import can_still_hold, is_short, lacks_more, shortage, short_lot
 from moonfall.moreerrors import TooMany
-from plain import greatest_put
+from moonfall.shelves import Shelf
+from moonfall.transversals import least_transversals
+from plain import NEVER, greatest_put
 
 
 def random_masks(dice):
@@ -42,6 +44,29 @@ class Matching(unittest.TestCase):
         self.assertTrue(is_within(0b101, 0b111) and not is_within(0b1001, 0b111))
         self.assertTrue(is_within_any(0b101, [0b1, 0b101]) and not is_within_any(0b101, [0b1, 0b110]))
         self.assertEqual(greatest_of([0b1, 0b110, 0b111, 0b1000, 0b111, 0b1100]), [0b111, 0b1100])
+
+    def test_shelves(self):
+        for seed in range(200):
+            dice = Random(seed)
+            many = dice.randint(0, 6)
+            shelf = Shelf(many)
+            masks = []
+            for _ in range(dice.randint(0, 8)):
+                masks.append(dice.randrange(1 << many))
+                shelf.put(masks[-1])
+                for asked in range(1 << many):
+                    around = [place for place, mask in enumerate(masks) if is_within(asked, mask)]
+                    self.assertEqual(shelf.first_around(asked), around[0] if around else None)
+                    self.assertIs(shelf.has_within(asked), any(is_within(mask, asked) for mask in masks))
+
+    def test_transversals(self):
+        for seed in range(200):
+            dice = Random(seed)
+            many = dice.randint(0, 6)
+            masks = [dice.randrange(1 << many) for _ in range(dice.randint(0, 6))]
+            meeting = [mask for mask in range(1 << many) if all(mask & each for each in masks)]
+            least = [mask for mask in meeting if not any(is_within(less, mask) for less in meeting if less != mask)]
+            self.assertEqual(sorted(least_transversals(masks, Budget(NEVER))), least)
 
 
 def region_plain(links):

@@ -1,0 +1,104 @@
+"""Plans: rows (belief, fuel, number of a deed) by which a goal is sure."""
+
+from moonfall.beliefs import is_end, is_kept, outcomes
+from moonfall.crafts import MOST_TANK
+from moonfall.goals import is_goal, reaches
+from moonfall.masks import mask_of
+from moonfall.sureness import sureness_for
+from moonfall.whole import is_between
+
+MOST_NUMBER = 1000000
+
+
+def covers(row, belief, fuel):
+    """Whether all standings of a belief are a row's, and there is no less fuel than the row's."""
+    held = {standing: True for standing in row[0]}
+    return fuel >= row[1] and all([standing in held for standing in belief])
+
+
+def row_covering(plan, belief, fuel):
+    """The first row of a plan that covers them; None without any."""
+    for row in plan:
+        if covers(row, belief, fuel):
+            return row
+    return None
+
+
+def deed_by(plan, belief, fuel):
+    """The number of this row's deed; None without any."""
+    row = row_covering(plan, belief, fuel)
+    return None if row is None else row[2]
+
+
+def plan_for(craft, goal, belief, fuel, most):
+    """An ascending plan that shows a goal from a belief with some fuel; None if it isn't sure."""
+    sureness, mask = sureness_for(craft, goal, belief, fuel, most)
+    return tuple(sorted(sureness.rows_from(mask, fuel))) if sureness.is_sure(mask, fuel) else None
+
+
+def shows_plan(craft, goal, belief, fuel, plan, most):
+    """Whether anybody's thing is a plan that shows a goal from a belief with some fuel."""
+    craft.check_start(belief, fuel)
+    if not is_goal(goal) or not is_plan(craft, plan):
+        return False
+    table = Table(plan)
+    if not table.is_covered(belief, fuel):
+        return False
+    for row in plan:
+        if not _is_right(craft, goal, row, table, most):
+            return False
+    return True
+
+
+def is_plan(craft, thing):
+    """Whether a thing has the form of a plan."""
+    return isinstance(thing, tuple) and all([_is_row(craft, row) for row in thing])
+
+
+def _is_row(craft, thing):
+    if not isinstance(thing, tuple) or len(thing) != 3:
+        return False
+    belief, fuel, number = thing
+    if not isinstance(belief, tuple) or not belief or not all([craft.is_over(standing) for standing in belief]):
+        return False
+    return is_between(fuel, 0, MOST_TANK) and is_between(number, 0, MOST_NUMBER)
+
+
+def _is_right(craft, goal, row, table, most):
+    """Whether a row's deed reaches the goal, or leads to nothing but what is covered."""
+    belief, fuel, number = row
+    if number >= len(craft.deeds) or craft.deeds[number].fuel > fuel:
+        return False
+    deed = craft.deeds[number]
+    held = tuple(sorted(set(belief)))
+    if not is_kept(craft, held, deed):
+        return False
+    if is_end(deed):
+        return reaches(deed, goal)
+    for lot, _ in outcomes(craft, held, deed, most):
+        if not table.is_covered(lot, fuel - deed.fuel):
+            return False
+    return True
+
+
+class Table:
+    """The beliefs of rows as masks, so that it is soon told what they cover."""
+
+    def __init__(self, rows):
+        self._numbers = {}
+        self._masks = []
+        for row in rows:
+            for standing in row[0]:
+                self._numbers.setdefault(standing, len(self._numbers))
+            self._masks.append((row[1], mask_of([self._numbers[standing] for standing in row[0]])))
+
+    def is_covered(self, belief, fuel):
+        """Whether some row covers a belief and a fuel."""
+        numbers = [self._numbers.get(standing) for standing in belief]
+        if None in numbers:
+            return False
+        mask = mask_of(numbers)
+        for least, wider in self._masks:
+            if least <= fuel and not mask & ~wider:
+                return True
+        return False

@@ -37,7 +37,12 @@ def least_barred_lots(likeness, standings, budget):
     """The least lots of unlike standings of a sky that no picture fits."""
     album = Album(likeness, standings, budget)
     _, barred = album.parted()
-    return [album.standings_of(lot) for lot in barred]
+    found = []
+    for lot in barred:
+        for choice in album.choices_of(lot):
+            budget.spend()
+            found.append(choice)
+    return found
 
 
 def _album_of(sky, standings, most):
@@ -45,25 +50,45 @@ def _album_of(sky, standings, most):
         sky.check_standing(standing)
     budget = Budget(most)
     budget.spend()
-    return Album(Likeness(sky), sorted(set(standings)), budget)
+    return Album(Likeness(sky), standings, budget)
+
+
+def _twins_among(sky, standings):
+    """The lists of standings at which just the same can be seen: a picture fits all of a list, or none of it."""
+    twins = {}
+    for standing in sorted(set(standings)):
+        seen = tuple(sorted([(x, y, size) for x, y, size in sky.places(standing) if sky.camera.is_maybe(x, y)]))
+        twins.setdefault(seen, []).append(standing)
+    return list(twins.values())
 
 
 class Album:
-    """Pictures for the lots of a belief, which are masks of the places in it; what was found is kept."""
+    """Pictures for the lots of a belief, which has one standing of each list of twins; what was found is kept.
 
-    def __init__(self, likeness, belief, budget):
+    Lots are masks of the places in this belief.
+    """
+
+    def __init__(self, likeness, standings, budget):
         self.chart = likeness.chart
-        self.spots = Spots(likeness.sky, belief)
-        self.belief = belief
+        self._twins = _twins_among(likeness.sky, standings)
+        self.belief = [twins[0] for twins in self._twins]
+        self.spots = Spots(likeness.sky, self.belief)
         self.budget = budget
-        self.likes = _likes_among(likeness, belief)
+        self.likes = _likes_among(likeness, self.belief)
         self._pictures = []
-        self._fitted = Shelf(len(belief))
-        self._barred = Shelf(len(belief))
+        self._fitted = Shelf(len(self.belief))
+        self._barred = Shelf(len(self.belief))
 
     def standings_of(self, lot):
-        """The standings of a lot, in the order of the belief."""
-        return tuple([self.belief[number] for number in bits(lot)])
+        """The ascending tuple of the standings of a lot, all twins too."""
+        return tuple(sorted([standing for number in bits(lot) for standing in self._twins[number]]))
+
+    def choices_of(self, lot):
+        """The ascending tuples of standings that have just one of all twins each."""
+        choices = [()]
+        for number in bits(lot):
+            choices = [(*choice, standing) for choice in choices for standing in self._twins[number]]
+        return [tuple(sorted(choice)) for choice in choices]
 
     def picture(self, lot):
         """A picture that fits a lot whose standings are alike two by two; None without any."""

@@ -53,7 +53,8 @@ class Hints:
         """Whether the goal would be sure from a pair: with little fuel, with which not much is gone through, first."""
         if pair in self._enough and self._enough[pair] <= fuel:
             return True
-        for less in range(self._scarce.get(pair, 0) + 1, fuel + 1):
+        scarce = self._scarce.get(pair, 0)
+        for less in range(scarce + 1, fuel + 1):
             if self._is_sure_with(pair, less):
                 return True
         return False

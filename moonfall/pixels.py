@@ -35,7 +35,8 @@ def _take(cell, left):
     blob = [cell]
     at = 0
     while at < len(blob):
-        for near in cells_around(blob[at]):
+        around = cells_around(blob[at])
+        for near in around:
             if near in left:
                 del left[near]
                 blob.append(near)

@@ -176,6 +176,15 @@ def skies(many, start=0, frame=(2, 2), sizes=1, slacks=(0, 0, 1), errors=(0, 0, 
                                        errors=errors, turns=2, least=2)
 
 
+def turning_skies(many, start=0):
+    """Skies with four turns over few craters: at many standings just the same can be seen. Four points are enough."""
+    for seed in range(start, start + many):
+        dice = Random(seed)
+        craters = dice.choice(([(0, 0, 1)], [(0, 0, 1), (1, 0, 1)], [(0, 0, 1), (0, 0, 1), (3, 0, 1)]))
+        camera = Camera(3, 1, dice.choice((0, 0, 1)), dice.randint(0, 1), dice.choice((0, 0, 1)))
+        yield dice, Sky(Ground(craters), camera, (0, 1, 2, 3), (-1, 2, 0, 1))
+
+
 def changed_parts(thing):
     """A nest of tuples with just one part changed, in many ways; behind each one what may be mistaken for it."""
     if isinstance(thing, tuple):

@@ -8,7 +8,7 @@ from moonfall.answers import answers, common_picture
 from moonfall.errors import BadStanding
 from moonfall.grounds import Camera, Ground, Sky
 from moonfall.moreerrors import TooMany
-from plain import NEVER, all_pictures, fits_plain, lots_plain, points_enough, skies
+from plain import NEVER, all_pictures, fits_plain, lots_plain, points_enough, skies, turning_skies
 
 
 class Commons(unittest.TestCase):
@@ -132,6 +132,26 @@ class Answers(unittest.TestCase):
             self.assertEqual(self.check(sky, belief, told), sorted(good))
             several += 1 < len(told)
         self.assertGreater(several, 15)
+
+    def test_where_the_same_is_seen(self):
+        several = 0
+        for dice, sky in turning_skies(50):
+            belief = dice.sample(sky.standings(), 9)
+            lots = self.check(sky, belief, answers(sky, belief, NEVER))
+            self.assertEqual(lots, lots_plain(sky, belief, 4))
+            several += len(lots) > 1
+            whole = self.check(sky, sky.standings(), answers(sky, sky.standings(), NEVER))
+            self.assertEqual(whole, lots_plain(sky, sky.standings(), 4))
+        self.assertGreater(several, 25)
+
+    def test_all_that_turn(self):
+        sky = Sky(Ground([(-2, 0, 1)]), Camera(5, 5, 0, 1, 0), (0, 1, 2, 3), (-2, 2, -2, 2))
+        told = answers(sky, sky.standings(), NEVER)
+        self.check(sky, sky.standings(), told)
+        # Of 25 places two are seen, or, where a standing sees none, one.
+        seen = {place[:2] for standing in sky.standings() for place in sky.places(standing)}
+        within = [place for place in seen if 0 <= min(place) and max(place) < 5]
+        self.assertEqual(len(told), len(within) * (len(within) - 1) // 2 + len(within))
 
     def test_all_blind(self):
         sky = Sky(Ground([(0, 0, 1)]), Camera(3, 3, 0, 0, 1), (0, 1, 2, 3), (0, 9, 0, 9))

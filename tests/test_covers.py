@@ -10,7 +10,7 @@ from moonfall.errors import BadStanding
 from moonfall.grounds import Camera, Ground, Sky
 from moonfall.moreerrors import TooMany
 from moonfall.refusals import refusal, shows_refusal
-from plain import NEVER, lots_plain, points_enough, random_sky, skies
+from plain import NEVER, all_pictures, fits_plain, lots_plain, points_enough, random_sky, skies, turning_skies
 
 
 def least_plain(sky, belief):
@@ -81,6 +81,24 @@ class Covers(unittest.TestCase):
             self.assertEqual([len(lot) for lot in lots], sorted(len(lot) for lot in lots))
             found += any(len(lot) > 2 for lot in lots)
         self.assertGreater(found, 5)
+
+    def test_where_the_same_is_seen(self):
+        several = 0
+        for dice, sky in turning_skies(50, 500):
+            belief = dice.sample(sky.standings(), 7)
+            told = cover(sky, belief, NEVER)
+            lots = self.check(sky, belief, told)
+            fitted = [{s for s in belief if fits_plain(sky, picture, s)} for picture in all_pictures(sky, 4)]
+            least = []
+            for many in range(1, 8):
+                for lot in combinations(sorted(belief), many):
+                    if not any(set(less) <= set(lot) for less in least):
+                        if not any(set(lot) <= each for each in fitted):
+                            least.append(lot)
+            self.assertEqual(lots, least)
+            self.assertEqual(free_lots(belief, told, NEVER), lots_plain(sky, belief, 4))
+            several += len(lots) > 2
+        self.assertGreater(several, 25)
 
     def test_fitted_whole(self):
         sky = Sky(Ground([(0, 0, 1)]), Camera(2, 1, 0, 0, 0), (0,), (0, 9, 0, 0))

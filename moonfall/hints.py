@@ -17,23 +17,31 @@ def in_order(deeds):
 
 
 class Hints:
-    """For who is always told where one is; or, by pairs, two standings at one of which one is.
+    """For who is always told two standings at one of which one is.
 
     One standing is a pair of it with itself. Whoever is sure of a belief is so of each pair within it.
     """
 
-    def __init__(self, ways, goal, is_by_pairs):
+    def __init__(self, ways, goal):
         self.ways = ways
         self.goal = goal
-        self.is_by_pairs = is_by_pairs
         self.deeds = in_order(ways.craft.deeds)
         self._enough = {}
         self._scarce = {}
 
     def needed(self, mask, fuel):
         """How much fuel seems to be needed to be sure of a belief; more than some fuel just if that isn't enough."""
+        return self._needed_by(self._pairs_of(mask), fuel)
+
+    def needed_behind_look(self, camera, mask, fuel):
+        """The same behind a look, whatever is seen: both of a pair are believed only where they look alike."""
+        pairs = [(one, other) for one, other in self._pairs_of(mask)
+                 if one == other or self.ways.are_alike(camera, one, other)]
+        return self._needed_by(pairs, fuel)
+
+    def _needed_by(self, pairs, fuel):
         most = 0
-        for pair in self._pairs_of(mask):
+        for pair in pairs:
             if not self._is_sure(pair, fuel):
                 return fuel + 1
             most = max(most, self._enough[pair])
@@ -43,10 +51,9 @@ class Hints:
         """The pairs that are asked of a belief: of a great one only those of neighbours."""
         numbers = bits(mask)
         pairs = [(number, number) for number in numbers]
-        if self.is_by_pairs:
-            reach = len(numbers) if len(numbers) <= MANY else 1
-            for at, number in enumerate(numbers):
-                pairs.extend([(number, other) for other in numbers[at + 1:at + 1 + reach]])
+        reach = len(numbers) if len(numbers) <= MANY else 1
+        for at, number in enumerate(numbers):
+            pairs.extend([(number, other) for other in numbers[at + 1:at + 1 + reach]])
         return pairs
 
     def _is_sure(self, pair, fuel):

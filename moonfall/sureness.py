@@ -29,8 +29,7 @@ class Sureness:
         self.ways = Ways(craft, most)
         self.goal = goal
         self.deeds = in_order(craft.deeds)
-        self._plain_hints = Hints(self.ways, goal, False)
-        self._pair_hints = Hints(self.ways, goal, True)
+        self.hints = Hints(self.ways, goal)
         self._enough = {}
         self._scarce = {}
         self._patience = 0
@@ -78,7 +77,7 @@ class Sureness:
             return None
         self._patience -= 1
         self.budget.spend()
-        if self._needed(mask, fuel) <= fuel:
+        if self.hints.needed(mask, fuel) <= fuel:
             for at in self._best_first(mask, fuel):
                 answer = self._tried_deed(at, mask, fuel)
                 if answer:
@@ -93,11 +92,6 @@ class Sureness:
         if mask not in self._enough or self._enough[mask][0] > fuel:
             self._enough[mask] = (fuel, at)
 
-    def _needed(self, mask, fuel):
-        """What the hints tell of a belief: those of pairs are only worth their while in a longer search."""
-        hints = self._pair_hints if self.budget.spent > PATIENCE else self._plain_hints
-        return hints.needed(mask, fuel)
-
     def _best_first(self, mask, fuel):
         """The numbers of the deeds that may be good: one that ends a flight, or those that seem to need the least."""
         ranked = []
@@ -107,12 +101,18 @@ class Sureness:
                 if left >= 0 and reaches(deed, self.goal) and self.ways.behind(at, mask):
                     return [at]
             elif left >= 0:
-                # What can be seen may be much to work out: so of a look the belief itself is asked.
-                reached = mask if deed.kind == "look" else self.ways.behind(at, mask)
-                needed = self._needed(reached, left) if reached else fuel
+                needed = self._needed_behind(at, mask, left)
                 if needed <= left:
                     ranked.append((deed.fuel + needed, len(ranked), at))
         return [at for _, _, at in sorted(ranked)]
+
+    def _needed_behind(self, at, mask, left):
+        """How much fuel seems to be needed behind a deed that ends nothing; more than is left if that isn't enough."""
+        deed = self.ways.craft.deeds[at]
+        if deed.kind == "look":
+            return self.hints.needed_behind_look(deed.aim, mask, left)
+        reached = self.ways.behind(at, mask)
+        return self.hints.needed(reached, left) if reached else left + 1
 
     def _tried_deed(self, at, mask, fuel):
         """Whether a deed that may be good makes the goal sure; None if patience ends."""

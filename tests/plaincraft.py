@@ -2,10 +2,11 @@
 
 from random import Random
 
+from moonfall.answers import answers
 from moonfall.crafts import Craft
 from moonfall.deeds import away, land, look, step, turn
 from moonfall.grounds import Camera, Ground, Sky
-from plain import all_pictures, fits_plain, places_of, points_enough, turned_plain
+from plain import NEVER, all_pictures, fits_plain, places_of, points_enough, turned_plain
 
 STILL = ((0, 0),)
 
@@ -145,3 +146,13 @@ class Trial:
 
     def least(self, belief, fuel):
         return next((less for less in range(fuel + 1) if self.is_sure(belief, less)), None)
+
+
+class QuickTrial(Trial):
+    """The same where there are too many pictures to go through: what can be seen is told by the program's answers."""
+
+    def lots_seen(self, camera, belief):
+        key = (camera, belief)
+        if key not in self.lots:
+            self.lots[key] = {lot for lot, _ in answers(self.craft.skies[camera], belief, NEVER)}
+        return self.lots[key]

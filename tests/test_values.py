@@ -8,9 +8,10 @@ from moonfall.deeds import away, land, look, step, turn
 from moonfall.grounds import Camera, Ground, Sky
 from moonfall.landererrors import BadBelief, BadFlight
 from moonfall.moreerrors import TooMany
+from moonfall.plans import plan_for
 from moonfall.values import is_sure, least_fuel
 from plain import NEVER
-from plaincraft import STILL, Trial, cases, random_belief, random_craft
+from plaincraft import STILL, QuickTrial, Trial, cases, random_belief, random_craft, row_craft
 
 GOALS = ("land", "keep")
 
@@ -39,6 +40,45 @@ class Sure(unittest.TestCase):
                 told[goal][least] = told[goal].get(least, 0) + 1
         for counts in told.values():
             self.assertGreater(min(counts.get(least, 0) for least in (None, 1, 2, 3, 4, 5)), 5)
+
+    def check_much_fuel(self, craft, belief, fuel, trial):
+        least = trial.least(belief, fuel)
+        self.assertEqual(least_fuel(craft, trial.goal, belief, fuel, NEVER), least, (craft.deeds, belief))
+        for each in {fuel, least or fuel, (least or fuel) - 1}:
+            right = least is not None and least <= each
+            self.assertIs(is_sure(craft, trial.goal, belief, each, NEVER), right)
+            self.assertIs(plan_for(craft, trial.goal, belief, each, NEVER) is not None, right)
+        return least is not None and least > 8
+
+    def test_much_fuel(self):
+        # Searches that are long. Of the first seeds it takes a look behind which two standings are told apart late.
+        late = 0
+        for seed in (2150, 2344, 2382, 7736, 24631, *range(2000, 2300)):
+            for _, craft, belief, _ in cases(1, seed):
+                for goal in GOALS:
+                    late += self.check_much_fuel(craft, belief, 12, Trial(craft, goal))
+        self.assertGreater(late, 5)
+
+    def test_many_standings_and_much_fuel(self):
+        late = 0
+        for seed in range(250):
+            dice = Random(seed)
+            craft = row_craft(dice)
+            belief = random_belief(dice, craft, 7)
+            for goal in GOALS:
+                late += self.check_much_fuel(craft, belief, 15, QuickTrial(craft, goal))
+        self.assertGreater(late, 5)
+
+    def test_all_standings(self):
+        # So many look alike, in so many ways, that it must be told ahead of all that can be seen.
+        ground = Ground([(-4, -5, 1), (0, -1, 1), (3, 5, 1)])
+        for camera in (Camera(6, 6, 1, 0, 1), Camera(3, 3, 0, 1, 0)):
+            sky = Sky(ground, camera, (0, 1, 2, 3), (-5, 5, -5, 5))
+            steps = [step(1, aim, ((0, 0), (1, 0))) for aim in ((1, 0), (-1, 0), (0, 1), (0, -1))]
+            craft = Craft((sky,), (3, 3), 0, (*steps, look(1, 0), land(1, STILL), away(9)))
+            for goal, least in (("land", None), ("keep", 9)):
+                self.assertEqual(least_fuel(craft, goal, sky.standings(), 20, NEVER), least)
+                self.assertIs(is_sure(craft, goal, sky.standings(), 20, NEVER), goal == "keep")
 
     def test_the_goals(self):
         for seed in range(300):

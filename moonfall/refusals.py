@@ -88,7 +88,8 @@ class Refuser:
             return word, at, numbers
         masks = each_for_craters(self.spots, at, numbers)
         goods = [self.spots.told(mask) for mask in masks]
-        parts = [self._papers[(*row, mask & self.search.inside)] for mask in masks]
+        rows = [(*row, mask & self.search.inside) for mask in masks]
+        parts = [self._papers[longer] for longer in rows]
         return word, at, numbers, tuple(list(zip(goods, parts)))
 
 

@@ -130,6 +130,18 @@ class Language(unittest.TestCase):
                 if isinstance(node, (ast.FunctionDef, ast.ClassDef)):
                     self.assertFalse(node.decorator_list, name)
 
+    def test_stars(self):
+        """L7: no star in a subscript's brackets, not in a tuple in them either, nor in a set."""
+        for name, tree in trees().items():
+            for node in ast.walk(tree):
+                inner = []
+                if isinstance(node, ast.Subscript):
+                    inner = list(ast.walk(node.slice))
+                elif isinstance(node, ast.Set):
+                    inner = node.elts
+                for each in inner:
+                    self.assertNotIsInstance(each, ast.Starred, f"{name} {node.lineno}")
+
     def test_functions(self):
         for name, tree in trees().items():
             for node in functions_of(tree):

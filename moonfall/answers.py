@@ -4,10 +4,10 @@ from moonfall.budgets import Budget
 from moonfall.commons import common_points, owed_by
 from moonfall.fitting import fits_by
 from moonfall.likeness import Likeness
-from moonfall.masks import bits, greatest_of, is_within, mask_of
+from moonfall.masks import bits, is_within, mask_of
+from moonfall.parting import Parting
 from moonfall.shelves import Shelf
 from moonfall.spots import Spots
-from moonfall.transversals import meeting_too
 
 
 def common_picture(sky, lot, most):
@@ -110,54 +110,13 @@ class Album:
         fitted = [fits_by(self.chart, picture, standing) for standing in self.belief]
         return mask_of([number for number, is_fitted in enumerate(fitted) if is_fitted])
 
+    def lets(self, lot):
+        """Whether some picture fits a lot whose standings are alike two by two."""
+        return self.picture(lot) is not None
+
     def parted(self):
         """The greatest lots of the belief that have a picture, and the least ones that have none: two lists."""
-        lots = []
-        barred = []
-        for number, likes in enumerate(self.likes):
-            bit = 1 << number
-            barred.extend([bit | 1 << other for other in bits((bit - 1) & ~likes)])
-            bases = greatest_of([lot & likes for lot in lots] + [0])
-            grown = self._grown_by(bit, bases, barred)
-            known = {lot: True for lot in grown}
-            lots = [lot for lot in lots if lot | bit not in known] + grown
-        return lots, barred
-
-    def _grown_by(self, bit, bases, barred):
-        """The greatest lots with a picture that have one standing more than what lies within some bases.
-
-        What is beyond such a lot has a standing of each lot without a picture. So what is tried is what is beyond
-        none but these; if it has no picture, one lot more without one is known.
-        """
-        beyond = [(bit - 1) & ~base for base in bases]
-        at = 0
-        while at < len(beyond):
-            lot = (2 * bit - 1) & ~beyond[at]
-            if self.picture(lot) is None:
-                barred.append(self._least_barred(lot, bit))
-                # What was tried and has a picture stays ahead.
-                beyond = meeting_too(beyond, barred[-1] & ~bit, self.budget)
-            else:
-                at += 1
-        return [(2 * bit - 1) & ~mask for mask in beyond]
-
-    def _least_barred(self, lot, bit):
-        """A least part of a lot that has no picture, while it has one without a standing's bit."""
-        least = bit
-        others = bits(lot & ~bit)
-        while self.picture(least) is not None:
-            # Of the first others as few as can be, with which there is none: the last of them is needed.
-            low = 1
-            high = len(others)
-            while low < high:
-                many = (low + high) // 2
-                if self.picture(least | mask_of(others[:many])) is None:
-                    high = many
-                else:
-                    low = many + 1
-            least |= 1 << others[low - 1]
-            others = others[:low - 1]
-        return least
+        return Parting(self, self.likes, self.budget).parted()
 
 
 def _likes_among(likeness, belief):

@@ -15,3 +15,10 @@ class Budget:
         if self.spent >= self.most:
             raise TooMany(self.most)
         self.spent += 1
+
+
+class Patience:
+    """How much may still be tried until something else is tried: shared by searches that ask one another."""
+
+    def __init__(self):
+        self.left = 0

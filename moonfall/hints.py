@@ -17,15 +17,15 @@ def in_order(deeds):
 
 
 class Hints:
-    """For who is always told two standings at one of which one is.
+    """For who is always told two standings at one of which one is, and does some deeds, in their order.
 
     One standing is a pair of it with itself. Whoever is sure of a belief is so of each pair within it.
     """
 
-    def __init__(self, ways, goal):
+    def __init__(self, ways, goal, deeds):
         self.ways = ways
         self.goal = goal
-        self.deeds = in_order(ways.craft.deeds)
+        self.deeds = deeds
         self._enough = {}
         self._scarce = {}
 
@@ -34,10 +34,31 @@ class Hints:
         return self._needed_by(self._pairs_of(mask), fuel)
 
     def needed_behind_look(self, camera, mask, fuel):
-        """The same behind a look, whatever is seen: both of a pair are believed only where they look alike."""
-        pairs = [(one, other) for one, other in self._pairs_of(mask)
-                 if one == other or self.ways.are_alike(camera, one, other)]
-        return self._needed_by(pairs, fuel)
+        """The same behind a look, whatever is seen."""
+        return self._needed_by(self._pairs_behind_look(camera, mask), fuel)
+
+    def scarce_pair(self, mask, fuel):
+        """The first pair that is asked of a belief for which some fuel isn't enough; None without any."""
+        return self._first_scarce(self._pairs_of(mask), fuel)
+
+    def scarce_pair_behind_look(self, camera, mask, fuel):
+        """The same behind a look: some picture fits both."""
+        return self._first_scarce(self._pairs_behind_look(camera, mask), fuel)
+
+    def scarce_fuel(self, pair):
+        """The most fuel that is known not to be enough for a pair."""
+        return self._scarce.get(pair, 0)
+
+    def _first_scarce(self, pairs, fuel):
+        for pair in pairs:
+            if not self._is_sure(pair, fuel):
+                return pair
+        return None
+
+    def _pairs_behind_look(self, camera, mask):
+        """The pairs that are asked of what can be seen: both of a pair are believed only where they look alike."""
+        return [(one, other) for one, other in self._pairs_of(mask)
+                if one == other or self.ways.are_alike(camera, one, other)]
 
     def _needed_by(self, pairs, fuel):
         most = 0

@@ -1,7 +1,7 @@
 """Plans: rows (belief, fuel, number of a deed) by which a goal is sure."""
 
 from moonfall.beliefs import is_end, is_kept, outcomes
-from moonfall.crafts import MOST_TANK
+from moonfall.forms import is_row
 from moonfall.goals import is_goal, reaches
 from moonfall.masks import mask_of
 from moonfall.sureness import sureness_for
@@ -52,33 +52,28 @@ def shows_plan(craft, goal, belief, fuel, plan, most):
 
 def is_plan(craft, thing):
     """Whether a thing has the form of a plan."""
-    return isinstance(thing, tuple) and all([_is_row(craft, row) for row in thing])
+    if not isinstance(thing, tuple) or not all([is_row(craft, row) for row in thing]):
+        return False
+    return all([is_between(number, 0, MOST_NUMBER) for _, _, number in thing])
 
 
-def _is_row(craft, thing):
-    if not isinstance(thing, tuple) or len(thing) != 3:
-        return False
-    belief, fuel, number = thing
-    if not isinstance(belief, tuple) or not belief or not all([craft.is_over(standing) for standing in belief]):
-        return False
-    return is_between(fuel, 0, MOST_TANK) and is_between(number, 0, MOST_NUMBER)
+def deed_kept(craft, row):
+    """The deed of a row, if it is there, the row's fuel is enough for it, and it keeps the craft whole; else None."""
+    belief, fuel, number = row
+    if number >= len(craft.deeds) or craft.deeds[number].fuel > fuel:
+        return None
+    deed = craft.deeds[number]
+    return deed if is_kept(craft, belief, deed) else None
 
 
 def _is_right(craft, goal, row, table, most):
     """Whether a row's deed reaches the goal, or leads to nothing but what is covered."""
-    belief, fuel, number = row
-    if number >= len(craft.deeds) or craft.deeds[number].fuel > fuel:
-        return False
-    deed = craft.deeds[number]
-    held = tuple(sorted(set(belief)))
-    if not is_kept(craft, held, deed):
-        return False
-    if is_end(deed):
-        return reaches(deed, goal)
-    for lot, _ in outcomes(craft, held, deed, most):
-        if not table.is_covered(lot, fuel - deed.fuel):
-            return False
-    return True
+    deed = deed_kept(craft, row)
+    if deed is None or is_end(deed):
+        return deed is not None and reaches(deed, goal)
+    held = tuple(sorted(set(row[0])))
+    lots = [lot for lot, _ in outcomes(craft, held, deed, most)]
+    return table.are_covered(lots, row[1] - deed.fuel)
 
 
 class Table:
@@ -102,3 +97,10 @@ class Table:
             if least <= fuel and not mask & ~wider:
                 return True
         return False
+
+    def are_covered(self, beliefs, fuel):
+        """Whether each of some beliefs is, with a fuel."""
+        for belief in beliefs:
+            if not self.is_covered(belief, fuel):
+                return False
+        return True

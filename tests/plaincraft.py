@@ -62,6 +62,25 @@ def row_craft(dice):
     return Craft((sky,), (dice.randint(0, 1), 0), 0, tuple(dice.sample(deeds, dice.randint(4, 6))))
 
 
+def look_craft(dice):
+    """A craft over a row of a few craters, for which a look is often worth its fuel."""
+    craters = [(x, 0, dice.choice((1, 1, 2))) for x in dice.sample(range(-6, 7), dice.randint(2, 4))]
+    camera = Camera(dice.randint(3, 5), 1, dice.choice((0, 0, 0, 1)), dice.choice((0, 0, 0, 1)),
+                    dice.choice((0, 0, 0, 1)))
+    sky = Sky(Ground(craters), camera, (0,), (-7, 8, 0, 0))
+    slips = dice.choice((STILL, STILL, ((0, 0), (1, 0))))
+    deeds = (land(1, STILL), look(1, 0), step(1, (1, 0), slips), step(1, (-1, 0), STILL), away(dice.randint(8, 14)))
+    return Craft((sky,), (dice.randint(0, 2), 0), 0, deeds)
+
+
+def look_cases(many, start):
+    """Such crafts with beliefs."""
+    for seed in range(start, start + many):
+        dice = Random(seed)
+        craft = look_craft(dice)
+        yield dice, craft, random_belief(dice, craft, 6)
+
+
 def random_belief(dice, craft, most=4):
     standings = craft.skies[0].standings()
     return tuple(sorted(dice.sample(standings, min(len(standings), dice.randint(1, most)))))
@@ -146,6 +165,26 @@ class Trial:
 
     def least(self, belief, fuel):
         return next((less for less in range(fuel + 1) if self.is_sure(belief, less)), None)
+
+
+    def is_sure_with(self, belief, fuel, looks):
+        """Whether it is sure with at most so many looks in each run."""
+        key = (belief, fuel, looks)
+        if key not in self.known:
+            self.known[key] = any(self.is_good_with(deed, belief, fuel - deed.fuel, looks) for deed in self.craft.deeds)
+        return self.known[key]
+
+    def is_good_with(self, deed, belief, left, looks):
+        if left < 0 or not is_kept_plain(self.craft, belief, deed):
+            return False
+        if deed.kind in ("land", "away"):
+            return deed.kind == "land" or self.goal == "keep"
+        if deed.kind == "look":
+            return looks > 0 and all(self.is_sure_with(lot, left, looks - 1) for lot in self.lots_seen(deed.aim, belief))
+        return self.is_sure_with(behind_plain(self.craft, belief, deed), left, looks)
+
+    def fewest_looks(self, belief, fuel):
+        return next((many for many in range(fuel + 1) if self.is_sure_with(belief, fuel, many)), None)
 
 
 class QuickTrial(Trial):

@@ -24,8 +24,10 @@ LIBRARY = {
 BARRED_WORDS = set("""register mro elements open input law version_info with_traceback add_note attrgetter breakpoint
 builtins compile copyright credits delattr dir eval exec exit gc globals help id importlib license locals methodcaller
 os quit super type vars sys""".split())
-BARRED_NODES = (ast.Lambda, ast.Try, ast.With, ast.Global, ast.Nonlocal, ast.AsyncFunctionDef, ast.AsyncFor,
+BARRED_NODES = (ast.Lambda, ast.With, ast.Global, ast.Nonlocal, ast.AsyncFunctionDef, ast.AsyncFor,
                 ast.AsyncWith, ast.Await, ast.Match, ast.Import, ast.GeneratorExp, ast.YieldFrom, ast.AnnAssign, ast.Div)
+# Whoever runs examples leaves a `_` among the builtins.
+TAKEN = set(dir(builtins)) - {"_"}
 DUNDERS = {"__init__", "__eq__", "__repr__", "__str__", "__len__"}
 
 
@@ -69,7 +71,7 @@ class Language(unittest.TestCase):
         for path in PACKAGE.iterdir():
             if path.name != "__pycache__":
                 self.assertRegex(path.name, r"^[a-z0-9_]+\.py$")
-                self.assertNotIn(path.stem, set(sys.stdlib_module_names) | set(dir(builtins)))
+                self.assertNotIn(path.stem, set(sys.stdlib_module_names) | TAKEN)
         for name, text in sources().items():
             lines = text.split("\n")
             self.assertLessEqual(len(lines) - 1, 399, name)
@@ -130,6 +132,18 @@ class Language(unittest.TestCase):
                 if isinstance(node, (ast.FunctionDef, ast.ClassDef)):
                     self.assertFalse(node.decorator_list, name)
 
+    def test_caught_errors(self):
+        """L19: only own errors are caught, each by its name; no `finally`."""
+        own = {node.name for tree in trees().values() for node in ast.walk(tree)
+               if isinstance(node, ast.ClassDef) and node.bases and node.name != "MoonError"} | {"MoonError"}
+        for name, tree in trees().items():
+            for node in ast.walk(tree):
+                if isinstance(node, ast.Try):
+                    self.assertFalse(node.finalbody, name)
+                    for handler in node.handlers:
+                        self.assertIsNone(handler.name, name)
+                        self.assertIn(getattr(handler.type, "id", None), own, name)
+
     def test_stars(self):
         """L7: no star in a subscript's brackets, not in a tuple in them either, nor in a set."""
         for name, tree in trees().items():
@@ -160,12 +174,12 @@ class Language(unittest.TestCase):
             for node in functions_of(tree):
                 bound = bound_in(node)
                 self.assertFalse(bound & (imported | classes), f"{name}.{node.name}")
-                self.assertFalse(bound & (set(dir(builtins)) | BARRED_WORDS), f"{name}.{node.name}")
+                self.assertFalse(bound & (TAKEN | BARRED_WORDS), f"{name}.{node.name}")
                 read = {each.id for each in ast.walk(node) if isinstance(each, ast.Name)} - bound - outside
                 self.assertLessEqual(read, BUILTINS, f"{name}.{node.name}")
                 self.assertNotIn("_", {each.id for each in ast.walk(node)
                                        if isinstance(each, ast.Name) and isinstance(each.ctx, ast.Load)})
-            self.assertFalse(outside & (set(dir(builtins)) | BARRED_WORDS), name)
+            self.assertFalse(outside & (TAKEN | BARRED_WORDS), name)
 
     def test_attributes(self):
         known = trees()

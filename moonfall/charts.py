@@ -18,7 +18,7 @@ class Chart:
         """The craters of a size."""
         return self._sizes.get(size, 0)
 
-    def line(self, axis, turn):
+    def places_along(self, axis, turn):
         """The x (axis 0) or y (axis 1) of all craters, by their numbers, when the ground is turned."""
         if turn not in self._lines:
             places = [turned(x, y, turn) for x, y, _ in self.sky.ground.craters]
@@ -31,7 +31,7 @@ class Chart:
         found = self._known.get(key)
         if found is None:
             found = 0
-            for number, where in enumerate(self.line(axis, turn)):
+            for number, where in enumerate(self.places_along(axis, turn)):
                 if low <= where <= high:
                     found |= 1 << number
             self._known[key] = found

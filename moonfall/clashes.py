@@ -55,8 +55,8 @@ class Clashes:
         key = (axis, number, one_turn, turn)
         if key not in self._votes:
             chart = self.likeness.chart
-            here = chart.line(axis, one_turn)[number]
-            there = chart.line(axis, turn)
+            here = chart.places_along(axis, one_turn)[number]
+            there = chart.places_along(axis, turn)
             partners = bits(chart.of_size(self.sky.ground.craters[number][2]))
             self._votes[key] = self._around(axis, sorted([here - there[partner] for partner in partners]))
         return self._votes[key]

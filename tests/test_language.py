@@ -51,6 +51,8 @@ def bound_in(node):
             names.add(each.id)
         elif isinstance(each, ast.arg):
             names.add(each.arg)
+        elif isinstance(each, ast.ExceptHandler) and each.name:
+            names.add(each.name)
     return names
 
 
@@ -141,8 +143,13 @@ class Language(unittest.TestCase):
                 if isinstance(node, ast.Try):
                     self.assertFalse(node.finalbody, name)
                     for handler in node.handlers:
-                        self.assertIsNone(handler.name, name)
-                        self.assertIn(getattr(handler.type, "id", None), own, name)
+                        words = handler.type.elts if isinstance(handler.type, ast.Tuple) else [handler.type]
+                        self.assertLessEqual({getattr(word, "id", None) for word in words}, own, name)
+                        # Of a named error only its own attributes are read.
+                        let = {id(each.value) for each in ast.walk(handler) if isinstance(each, ast.Attribute)}
+                        for each in ast.walk(handler):
+                            if isinstance(each, ast.Name) and each.id == handler.name:
+                                self.assertIn(id(each), let, name)
 
     def test_stars(self):
         """L7: no star in a subscript's brackets, not in a tuple in them either, nor in a set."""

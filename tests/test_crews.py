@@ -158,6 +158,9 @@ class Logs(unittest.TestCase):
 
     def test_pictures_that_are_none(self):
         begin = "0 do 1 0\n"
+        for line in ("0 seen - 0", "0 SAW - 0", "0 do - 0", "0 saw - 1", "0 saw - 0 ", "0  saw - 0", "0 saw - 00", "0 saw -"):
+            crew = crew_of(example(), BOTH, 9, NEVER, f"{begin}{line}\n")
+            self.assertEqual((crew.rows, crew.text, crew.lander.looking), ([1], begin, 1), line)
         for word in ("", "--", "-1", "2,0", "2,0,1,0", "2,0,1;", ";2,0,1", "2,0,1;2,0", "2,0,01", "2,0,1 ", "2;0;1", "None",
                      "2,0,0", "3,0,1", "2,0,100", "2,0,2", "0,0,1", "2,0,1;2,0,1", "-2,0,1", "2,0,x", "(2,0,1)"):
             crew = crew_of(example(), BOTH, 9, NEVER, f"{begin}0 saw {word} 0\n1 do 0 1\n")

@@ -202,7 +202,8 @@ class Showing(unittest.TestCase):
             self.assertIs(told, goal == "land")
         answers = {*right, FUEL, ("picture", ()), ("bad", at, (0, 1, 0)), ("bad", at, (1, 0, 0)), ("away", at),
                    ("next", at), ("fuel", 2), ("picture",), ("picture", ((0, 0, 1),), at), ("bad",), ("bad", at),
-                   ("bad", at, at, at), ("hover",), (), ("", at, at), ("look",), ("land",)}
+                   ("bad", at, at, at), ("hover",), (), ("", at, at), ("look",), ("land",), ("seen", ((0, 0, 1),)),
+                   ("bad", ((0, 0, 1),)), ("fuel", ((0, 0, 1),)), ("hover", at, at), ("picture", at, at)}
         for number in range(5):
             for answer in answers:
                 changed = (*right[:number], answer, *right[number + 1:])
@@ -276,7 +277,8 @@ class Showing(unittest.TestCase):
                       (belief, 0, answers[:2]), (belief, 0, (*answers, FUEL)), (belief, 0, (FUEL, FUEL, ["fuel"])),
                       (belief, 0, (FUEL, FUEL, "fuel")), (belief, 0, (FUEL, FUEL, None)), (belief, 0, (FUEL, FUEL, ())),
                       (belief, 0, (FUEL, FUEL, (0,))), (belief, 0, (FUEL, FUEL, (None, BOTH[0], BOTH[0]))),
-                      (belief, 0, (FUEL, FUEL, (FUEL,))), None, 0, "row", (), {}, "abc"):
+                      (belief, 0, (FUEL, FUEL, (FUEL,))), (DOOM[1][0], 4, (list(HERE), *DOOM[1][2][1:])),
+                      (DOOM[1][0], 4, (HERE, list(LOST), DOOM[1][2][2])), None, 0, "row", (), {}, "abc"):
             self.assertIs(self.shows((*DOOM, wrong)), False, wrong)
         for thing in (None, 0, True, "", [], list(DOOM), {}, row, (None,), ((),), "abc", 1.5):
             self.assertIs(self.shows(thing), False, thing)

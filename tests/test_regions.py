@@ -102,14 +102,14 @@ class Beliefs(unittest.TestCase):
 
     def test_more_standings(self):
         told = {}
-        for dice, craft, _ in look_cases(120, 450000):
+        for dice, craft, _ in look_cases(70, 450000):
             belief = random_belief(dice, craft, 7)
             for goal in GOALS:
                 fuel = dice.randint(2, 8)
                 lots = greatest_beliefs(craft, goal, belief, fuel, NEVER)
                 self.assertEqual(lots, greatest_plain(QuickTrial(craft, goal), belief, fuel))
                 told[len(lots)] = told.get(len(lots), 0) + 1
-        self.assertGreater(sum(told[many] for many in told if many > 2), 30)
+        self.assertGreater(sum(told[many] for many in told if many > 2), 20)
 
     def test_many_standings(self):
         sky = Sky(Ground([(0, 0, 1), (3, 0, 1), (9, 1, 2)]), Camera(5, 5, 0, 0, 0), (0,), (-9, 9, -3, 3))

@@ -142,6 +142,8 @@ class Scripts(unittest.TestCase):
         self.assertEqual(run_script(text.format("turns 0 2\narea 0 1 0 0\n")),
                          ["where 0,0,0;0,1,0;2,0,0;2,1,0", "least 2"])
         self.assertEqual(run_script(text.format("crater 3 0 1\n")), ["where 0,0,0", "least 2"])
+        self.assertEqual(run_script(text.format("crater 2 0 1\n")), ["where 0,0,0", "least 2"])
+        self.assertEqual(run_script(text.format("crater 0 -2 1\n")), ["where 0,0,0", "least 2"])
         self.assertEqual(run_script(text.format("crater 3 0 1\nroom 2\n")), ["where -", "least none"])
         self.assertEqual(run_script(text.format("crater 3 0 1\nroom 2\nfoot -1 0\n")), ["where 0,0,0", "least 2"])
 

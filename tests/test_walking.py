@@ -68,6 +68,8 @@ class Papers(unittest.TestCase):
         self.assertEqual([paper is None for paper in PAPERS], [True, False, True, True, True])
         self.assertEqual([lot for lot, _ in PAPERS[1]], [BOTH])
         self.assertEqual(papers_for(example(), (), NEVER), ())
+        # Beside a deed that isn't there there is nothing.
+        self.assertEqual(papers_for(example(), ((BOTH, 5, 3), (BOTH, 5, 1000000), PLAN[1]), NEVER), (None, None, PAPERS[1]))
 
     def test_too_many(self):
         with self.assertRaises(TooMany) as told:
